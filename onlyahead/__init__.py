@@ -1,0 +1,1 @@
+"""Onlyahead: machines built of cells that look only ahead."""
