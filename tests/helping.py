@@ -1,8 +1,9 @@
-"""What the tests of machines and judges have in common."""
+"""What the tests have in common."""
 
 import itertools
 import random
 
+from onlyahead.circuits import Circuit
 from onlyahead.machines import Judge, Machine
 
 STRANGE = [None, True, False, 3, -1, "", [], (), ["a"], ("a",), [[]], "\n", "\u00e9", "\u0661"]
@@ -37,3 +38,44 @@ def ring_rows(size, alphabet="a"):
 def counting(size, rest=0, alphabet="a"):
     """A judge of the words whose length is the rest modulo the size."""
     return Judge(alphabet, ring_rows(size, alphabet), [rest])
+
+
+def some_machines(seed, many, alphabet, states):
+    """Machines of up to this many states, with starts anywhere."""
+    return [Machine(judge.alphabet, judge.rows(), start=judge.start) for judge in some_judges(seed, many, alphabet, states)]
+
+
+def some_line(chance, sizes):
+    """A line of any kind that can stand behind lines of these sizes, and its size without a letter line's."""
+    kind = chance.choice(["const", "wire", "join", "latch", "counter"]) if sizes else "const"
+    ref, other = (chance.randrange(len(sizes)), chance.randrange(len(sizes))) if sizes else (0, 0)
+    if kind == "const":
+        value = chance.randrange(4)
+        return ("const", value), value + 1
+    if kind == "wire":
+        table = tuple(chance.randrange(5) for _ in range(sizes[ref]))
+        return ("wire", ref, table), max(table) + 1
+    if kind == "join":
+        table = tuple(tuple(chance.randrange(4) for _ in range(sizes[other])) for _ in range(sizes[ref]))
+        return ("join", ref, other, table), max(max(row) for row in table) + 1
+    if kind == "latch":
+        sides = max(2, sizes[ref] - 1) + chance.randrange(2)
+        return ("latch", sides, chance.randrange(sides), ref), sides
+    prime = chance.choice([2, 3, 5])
+    return ("counter", prime, chance.randrange(prime), ref), prime
+
+
+def some_circuits(seed, many, alphabet, length):
+    """Circuits of up to this many lines, and one more that is their last one."""
+    chance = random.Random(seed)
+    found = []
+    for _ in range(many):
+        lines, sizes = [("letter",)], [len(alphabet)]
+        for _ in range(chance.randint(1, length)):
+            line, size = some_line(chance, sizes)
+            lines.append(line)
+            sizes.append(size)
+        # A cell may stand last, whatever it refers to.
+        lines.append(("counter", 97, chance.randrange(97), len(lines) - 1))
+        found.append(Circuit(alphabet, lines))
+    return found
