@@ -104,6 +104,11 @@ def refs_at_once(line):
     return []
 
 
+def refs_of(line):
+    """The list of all refs of a line."""
+    return [line[3]] if is_cell(line) else refs_at_once(line)
+
+
 def is_cell(line):
     """Whether a line is a latch or a counter."""
     return line[0] == "latch" or line[0] == "counter"

@@ -27,14 +27,16 @@ def changed_side(cell, side, worth):
     return side if worth == 0 else worth - 1
 
 
-def needed_places(lines, targets):
-    """The ascending list of the places of lines, cells left out, whose values the lines at the targets need."""
+def needed_places(lines, targets, known=None):
+    """The ascending list of the places of lines, cells left out, whose values the lines at the targets need.
+
+    The line at the known place is left out, too, with what only its value needs."""
     needed = {target: True for target in targets}
     for at in reversed(range(len(lines))):
-        if at in needed:
+        if at in needed and at != known:
             for ref in refs_at_once(lines[at]):
                 needed[ref] = True
-    return [at for at in sorted(needed) if not is_cell(lines[at])]
+    return [at for at in sorted(list(needed)) if at != known and not is_cell(lines[at])]
 
 
 class Steps:

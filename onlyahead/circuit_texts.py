@@ -2,7 +2,7 @@
 
 from onlyahead.errors import InvalidText
 from onlyahead.letters import is_alphabet
-from onlyahead.texts import is_written_number, text_rows
+from onlyahead.texts import number_words, read_numbers, text_rows
 
 
 def written_circuit(alphabet, lines):
@@ -20,11 +20,6 @@ def written_line(line):
     else:
         words = number_words(line[1:])
     return " ".join([line[0], *words])
-
-
-def number_words(numbers):
-    """The list of the words that tell some numbers."""
-    return [str(number) for number in numbers]
 
 
 def read_circuit(text):
@@ -60,10 +55,3 @@ def read_join(words):
     if refs is None or None in table:
         return None
     return ("join", *refs, tuple(table))
-
-
-def read_numbers(words):
-    """The tuple of the numbers that some words are, or None if one of them is no number."""
-    if not all([is_written_number(word) for word in words]):
-        return None
-    return tuple([int(word) for word in words])

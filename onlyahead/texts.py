@@ -21,3 +21,15 @@ def is_written_number(word):
         return False
     # Methods like isdigit would let digits of other scripts pass.
     return all([sign in DIGITS for sign in word])
+
+
+def number_words(numbers):
+    """The list of the words that tell some numbers."""
+    return [str(number) for number in numbers]
+
+
+def read_numbers(words):
+    """The tuple of the numbers that some words are, or None if one of them is no number."""
+    if not all([is_written_number(word) for word in words]):
+        return None
+    return tuple([int(word) for word in words])

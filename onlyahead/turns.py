@@ -65,13 +65,13 @@ def ring_sizes(machine):
 
 def has_ring_of(machine, states):
     """Whether there is a ring of all states of a set."""
-    return any([is_around(states, ends) for ends, _ in turns(machine, states)])
+    return any([len(passed_by(states, ends)) == len(states) for ends, _ in turns(machine, states)])
 
 
-def is_around(states, ends):
-    """Whether a turn of these states leads from the first one through all others back to it."""
+def passed_by(states, ends):
+    """The list of the states through which a turn of these states leads from the first one, until it comes again."""
     leads = dict(zip(states, ends))
     passed = [states[0]]
     while leads[passed[-1]] != states[0]:
         passed.append(leads[passed[-1]])
-    return len(passed) == len(states)
+    return passed

@@ -4,6 +4,7 @@ import itertools
 import random
 
 from onlyahead.circuits import Circuit
+from onlyahead.formulas import Formula
 from onlyahead.machines import Judge, Machine
 
 STRANGE = [None, True, False, 3, -1, "", [], (), ["a"], ("a",), [[]], "\n", "\u00e9", "\u0661"]
@@ -79,3 +80,60 @@ def some_circuits(seed, many, alphabet, length):
         lines.append(("counter", 97, chance.randrange(97), len(lines) - 1))
         found.append(Circuit(alphabet, lines))
     return found
+
+
+def some_formula(chance, alphabet, length, primes=(2, 3, 5)):
+    """A formula of this many lines of any kind."""
+    lines = []
+    for at in range(length):
+        kind = chance.choice(["is", "not", "and", "or", "before", "since", "count"]) if at else "is"
+        if kind == "is":
+            lines.append((kind, "".join(letter for letter in alphabet if chance.random() < 0.5)))
+        elif kind in ("and", "or"):
+            lines.append((kind, tuple(sorted({chance.randrange(at) for _ in range(chance.randrange(4))}))))
+        elif kind == "since":
+            lines.append((kind, chance.randrange(at), chance.randrange(at)))
+        elif kind == "count":
+            prime = chance.choice(primes)
+            lines.append((kind, chance.randrange(at), prime, chance.randrange(prime)))
+        else:
+            lines.append((kind, chance.randrange(at)))
+    return Formula(alphabet, lines, first=chance.random() < 0.5)
+
+
+def some_formulas(seed, many, alphabet, length):
+    """Formulas of up to this many lines."""
+    chance = random.Random(seed)
+    return [some_formula(chance, alphabet, chance.randint(1, length)) for _ in range(many)]
+
+
+def ticking(primes, late=False):
+    """A circuit over "a" that has as many lists of sides, one behind the other, as the product of these primes.
+
+    One more if late: then it comes back to the second one instead of the first."""
+    lines = [("const", 1)]
+    carry = 0
+    for prime in primes:
+        lines.append(("counter", prime, 0, carry))
+        table = tuple(tuple(int(ahead == 1 and side == prime - 1) for side in range(prime)) for ahead in range(2))
+        lines.append(("join", carry, len(lines) - 1, table))
+        carry = len(lines) - 1
+    if late:
+        lines += [("const", 2), ("latch", 2, 0, len(lines))]
+    return Circuit("a", lines + [("wire", 0, (0, 1)), ("wire", 1, tuple(range(primes[0])))])
+
+
+def weight(circuit):
+    """The weight of a circuit, by which formulas for it are bounded."""
+    sizes, total = circuit.sizes(), 0
+    for line, size in zip(circuit.lines(), sizes):
+        kind, *parts = line
+        total += {
+            "const": lambda: 1,
+            "letter": lambda: size,
+            "wire": lambda: sizes[parts[0]],
+            "join": lambda: sizes[parts[0]] * sizes[parts[1]],
+            "latch": lambda: size + sizes[parts[2]],
+            "counter": lambda: size ** 3 + sizes[parts[2]],
+        }[kind]()
+    return total
