@@ -117,12 +117,8 @@ def sides_behind(claims, cell, values):
 def counter_sides(claims, cell, values):
     """For each side that a counter may have behind the letter, the index of a line that tells whether it has it."""
     _, prime, start, _ = cell
-    steps = {}
-    for worth, ref in values.items():
-        if worth % prime != 0:
-            steps.setdefault(worth % prime, []).append(ref)
     found = {start: claims.always()}
-    for step, refs in steps.items():
+    for step, refs in counted_steps(values, prime).items():
         source = claims.one_of(refs)
         sums = {}
         for rest in range(prime):
@@ -131,6 +127,25 @@ def counter_sides(claims, cell, values):
                 sums.setdefault((side + step * rest) % prime, []).append(claims.both_of(ref, counted))
         found = {side: claims.one_of(refs) for side, refs in sums.items()}
     return found
+
+
+def counted_steps(values, prime):
+    """For each of some steps the list of the indexes of the lines that make it: what a counter adds is their sum.
+
+    Each step is counted by itself, so there should be few: the steps are the numbers that are added, or powers of 2."""
+    added = {}
+    powers = {}
+    for worth, ref in values.items():
+        left = worth % prime
+        if left > 0:
+            added.setdefault(left, []).append(ref)
+        power = 1
+        while left > 0:
+            if left % 2 == 1:
+                powers.setdefault(power, []).append(ref)
+            left = left // 2
+            power = 2 * power
+    return powers if len(powers) < len(added) else added
 
 
 def sides_ahead(claims, start, behind):

@@ -484,6 +484,18 @@ class BackTest(unittest.TestCase):
         for accepted in ([10], [20, 30], [30]):
             self.assertEqual(judge_of_formula(formula_of(circuit, accepted)), judge_of(circuit, accepted))
 
+    def test_counters_of_many_steps(self):
+        chance = random.Random(37)
+        for prime in (2, 3, 5, 7, 11, 13):
+            for table in [(0, 1, 2, 3), (1, 2, 3, 4), (3, 3, 0, 5), (7, 14, 15, 6), *[tuple(chance.sample(range(30), 4)) for _ in range(6)]]:
+                circuit = Circuit("abcd", [("letter",), ("wire", 0, table), ("counter", prime, chance.randrange(prime), 1)])
+                accepted = chance.sample(range(prime), prime // 2)
+                formula = formula_of(circuit, accepted)
+                for word in all_words("abcd", 3):
+                    self.assertIs(word in formula, circuit.after(word) in accepted)
+                if table == (0, 1, 2, 3):
+                    self.assertEqual(judge_of_formula(formula), judge_of(circuit, accepted))
+
     def test_from_formulas(self):
         chance = random.Random(35)
         for _ in range(60):
