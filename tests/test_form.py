@@ -83,6 +83,29 @@ class FormTest(unittest.TestCase):
             if isinstance(node, ast.Attribute):
                 self.assertNotEqual(node.attr, "sort", name)
 
+    def test_names_of_methods_attributes_and_properties(self):
+        methods, properties, attributes = set(), set(), set()
+        for _, node in self.nodes():
+            if isinstance(node, ast.ClassDef):
+                for method in node.body:
+                    if isinstance(method, ast.FunctionDef):
+                        above = {ast.unparse(decorator) for decorator in method.decorator_list}
+                        (properties if above - {"classmethod"} else methods).add(method.name)
+            if isinstance(node, ast.Attribute) and isinstance(node.ctx, ast.Store):
+                attributes.add(node.attr)
+        self.assertEqual(methods & properties, set())
+        self.assertEqual((methods | properties) & attributes, set())
+
+    def test_parameters(self):
+        for name, node in self.nodes():
+            if isinstance(node, ast.arg):
+                self.assertFalse(hasattr(builtins, node.arg), (name, node.arg))
+
+    def test_no_assignment_in_place(self):
+        # The package has a class with an own +=, so each sum is written out.
+        for name, node in self.nodes():
+            self.assertNotIsInstance(node, ast.AugAssign, name)
+
     def test_no_file_imports_in_a_ring(self):
         ahead = {
             name: {node.module.partition(".")[2] for node in tree.body if isinstance(node, ast.ImportFrom)}
